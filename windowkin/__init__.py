@@ -1,0 +1,1 @@
+"""Windowkin: graphs of endless paths, codes with windows, splits and merges."""
