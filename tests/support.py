@@ -2,7 +2,10 @@
 
 import signal
 import unittest
+from itertools import product
 
+from windowkin.codes import Code
+from windowkin.errors import InvalidCode
 from windowkin.graphs import Graph
 
 PATIENCE = 60
@@ -30,6 +33,89 @@ def sample_graphs():
         Graph(3, [(2, 0), (0, 1), (1, 2), (1, 0), (0, 0)]),
         Graph(4, [(0, 1), (1, 0), (2, 3), (3, 3), (3, 2)]),
     ]
+
+
+def double():
+    return Graph.full(2)
+
+
+def sums():
+    """Each image is the sum of two edges, without carry."""
+    return Code(double(), double(), 2, [0, 1, 1, 0])
+
+
+def spread(width):
+    """Each image is the sum of the first and the last edge of a window, without carry."""
+    return Code(double(), double(), width, [path[0] ^ path[-1] for path in product(range(2), repeat=width)])
+
+
+def from_counts(counts):
+    """A graph with so many edges from each state to each state."""
+    return Graph(len(counts), [(source, target) for source, line in enumerate(counts)
+                               for target, count in enumerate(line) for edge in range(count)])
+
+
+def listed_paths(graph, length):
+    """All paths of a length in ascending order, found edge by edge."""
+    edges = graph.edges()
+    found = [(edge,) for edge in range(len(edges))]
+    for more in range(length - 1):
+        found = [path + (edge,) for path in found for edge in range(len(edges)) if edges[path[-1]][1] == edges[edge][0]]
+    return found
+
+
+def rows_of(graph, head_length, cycle_length):
+    """All pairs of a head and a cycle of at most these lengths that are rows of the graph."""
+    edges = graph.edges()
+    heads = [()] + [head for size in range(1, head_length + 1) for head in listed_paths(graph, size)]
+    cycles = [cycle for size in range(1, cycle_length + 1) for cycle in listed_paths(graph, size)
+              if edges[cycle[-1]][1] == edges[cycle[0]][0]]
+    return [(head, cycle) for head in heads for cycle in cycles
+            if not head or edges[head[-1]][1] == edges[cycle[0]][0]]
+
+
+def written(row, length):
+    """The first edges of a row."""
+    head, cycle = row
+    return (head + cycle * length)[:length]
+
+
+def all_codes(source, target, width):
+    """All codes of a width, found by trying every list of images."""
+    found = []
+    for images in product(range(len(target)), repeat=len(listed_paths(source, width))):
+        try:
+            found.append(Code(source, target, width, images))
+        except InvalidCode:
+            pass
+    return found
+
+
+def small_codes():
+    """Codes of several widths between small graphs, one to one, onto, both or neither."""
+    fork = Graph(3, [(0, 1), (0, 2), (1, 1), (2, 2), (2, 1)])
+    inlet = Graph(2, [(0, 0), (1, 0), (1, 1)])
+    pairs = [(golden(), golden(), 1), (golden(), golden(), 2), (double(), double(), 1), (double(), double(), 2),
+             (double(), double(), 3), (golden(), double(), 2), (fork, inlet, 1), (inlet, fork, 2), (fork, golden(), 1),
+             (inlet, inlet, 2), (ring(3, 1), ring(3, 1), 3), (Graph.full(3), double(), 1), (ring(2, 2), double(), 1),
+             (inlet, Graph.full(1), 4), (ring(2, 1), ring(2, 2), 2)]
+    return [code for source, target, width in pairs for code in all_codes(source, target, width)]
+
+
+def ladder(levels, loops):
+    """A code of width 1 that is one to one and onto and has the width back levels + 1.
+
+    The target has a loop 0 at the state 0, then the edges 1 and 2 to the state 1, and the other loops there. In the
+    source the state 0 is split so often that a row tells in advance whether the edge 1 comes.
+    """
+    end = levels + 1
+    target = Graph(2, [(0, 0), (0, 1), (0, 1)] + [(1, 1)] * loops)
+    edges = [(0, 0), (1 if levels else 0, end), (0, end)] + [(end, end)] * loops
+    images = list(range(len(edges)))
+    for state in range(1, levels + 1):
+        edges.append((state + 1 if state < levels else 0, state))
+        images.append(0)
+    return Code(Graph(levels + 2, edges), target, 1, images)
 
 
 class KinCase(unittest.TestCase):

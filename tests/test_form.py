@@ -11,7 +11,30 @@ from tests.support import KinCase
 
 PACKAGE = Path(__file__).resolve().parent.parent / "windowkin"
 
+STEP_METHODS = {
+    "__eq__": "(self, other)",
+    "check": "(self, graph)",
+    "result": "(self, graph)",
+    "forward": "(self, graph)",
+    "back": "(self, graph)",
+    "undone": "(self, graph)",
+    "text": "(self)",
+}
 FUNCTIONS = {
+    "codes": {
+        "compose": "(first, *others)",
+        "alike": "(one, other)",
+    },
+    "judging": {
+        "conflict": "(code)",
+        "width_back": "(code)",
+        "unreached": "(code)",
+        "inverse": "(code)",
+    },
+    "origins": {
+        "count_origins": "(code, row)",
+        "origins": "(code, row)",
+    },
     "paths": {
         "is_path": "(graph, path)",
         "paths": "(graph, length)",
@@ -28,6 +51,25 @@ FUNCTIONS = {
     },
 }
 METHODS = {
+    ("codes", "Code"): {
+        "__init__": "(self, source, target, width, images)",
+        "__eq__": "(self, other)",
+        "__len__": "(self)",
+        "__repr__": "(self)",
+        "identity": "(cls, graph)",
+        "source": "(self)",
+        "target": "(self)",
+        "width": "(self)",
+        "images": "(self)",
+        "lead_path": "(self, path)",
+        "lead": "(self, row)",
+        "narrowed": "(self)",
+        "widened": "(self, width)",
+    },
+    ("steps", "Split"): {"__init__": "(self, state, part)", **STEP_METHODS},
+    ("steps", "Merge"): {"__init__": "(self, one, other)", **STEP_METHODS},
+    ("steps", "Renaming"): {"__init__": "(self, states, edges)", **STEP_METHODS},
+    ("steps", "Step"): {},
     ("graphs", "Graph"): {
         "__init__": "(self, states, edges)",
         "__eq__": "(self, other)",
@@ -84,6 +126,10 @@ class InterfaceTest(KinCase):
         owner = importlib.import_module("windowkin.graphs").Graph
         self.assertIsInstance(vars(owner)["full"], classmethod)
         self.assertIsInstance(vars(owner)["states"], property)
+        owner = importlib.import_module("windowkin.codes").Code
+        self.assertIsInstance(vars(owner)["identity"], classmethod)
+        for name in ("source", "target", "width"):
+            self.assertIsInstance(vars(owner)[name], property)
 
 
 class FormTest(KinCase):
@@ -119,6 +165,40 @@ class FormTest(KinCase):
             if hasattr(builtins, node.id):
                 self.assertIn(node.id, BUILTINS, name)
                 self.assertIsInstance(node.ctx, ast.Load, (name, node.id))
+
+    def test_parameters_have_no_names_of_builtins(self):
+        for name, node in nodes(ast.arg):
+            self.assertFalse(hasattr(builtins, node.arg), (name, node.arg))
+
+    def test_no_variable_has_the_name_of_a_class_or_an_import_of_its_file(self):
+        for name, text in sources().items():
+            tree = ast.parse(text)
+            taken = {alias.name for node in ast.walk(tree) if isinstance(node, ast.ImportFrom) for alias in node.names}
+            taken |= {node.name for node in ast.walk(tree) if isinstance(node, ast.ClassDef)}
+            used = {node.id for node in ast.walk(tree)
+                    if isinstance(node, ast.Name) and isinstance(node.ctx, ast.Store)}
+            used |= {node.arg for node in ast.walk(tree) if isinstance(node, ast.arg)}
+            self.assertEqual(taken & used, set(), name)
+
+    def test_imports_name_the_file_that_defines_the_name_and_go_round_nowhere(self):
+        imported = {name[:-3]: set() for name in sources()}
+        for name, node in nodes(ast.ImportFrom):
+            origin = node.module.split(".")[1]
+            defined = {part.name for part in ast.parse(sources()[f"{origin}.py"]).body if hasattr(part, "name")}
+            self.assertTrue({alias.name for alias in node.names} <= defined, (name, node.module))
+            imported[name[:-3]].add(origin)
+        while imported:
+            free = [name for name, files in imported.items() if not files & set(imported)]
+            self.assertTrue(free, imported)
+            for name in free:
+                del imported[name]
+
+    def test_names_of_generators_are_not_used_otherwise(self):
+        made = {node.name for name, node in nodes(ast.FunctionDef)
+                if any(isinstance(part, (ast.Yield, ast.YieldFrom)) for part in ast.walk(node))}
+        every = [node.name for name, node in nodes(ast.FunctionDef)]
+        for name in made:
+            self.assertEqual(every.count(name), 1, name)
 
     def test_names_do_not_begin_with_an_underscore(self):
         found = [(name, node.id) for name, node in nodes(ast.Name)]

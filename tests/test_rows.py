@@ -1,17 +1,11 @@
 from itertools import product
 
-from tests.support import KinCase, golden, sample_graphs
+from tests.support import KinCase, golden, sample_graphs, written
 from windowkin.errors import InvalidCount, InvalidRow, OutOfRange
 from windowkin.graphs import Graph
 from windowkin.rows import check_row, drop, edge_at, normal_row, state_at
 
 HUGE = 10 ** 20
-
-
-def written(row, length):
-    """The first edges of a row."""
-    head, cycle = row
-    return (head + cycle * length)[:length]
 
 
 def small_rows(edges, head_length, cycle_length):
