@@ -2,11 +2,13 @@
 
 import signal
 import unittest
-from itertools import product
+from itertools import combinations, permutations, product
+from random import Random
 
 from windowkin.codes import Code
-from windowkin.errors import InvalidCode
+from windowkin.errors import InvalidCode, InvalidStep, LimitExceeded
 from windowkin.graphs import Graph
+from windowkin.steps import Merge, Renaming, Split
 
 PATIENCE = 60
 
@@ -116,6 +118,86 @@ def ladder(levels, loops):
         edges.append((state + 1 if state < levels else 0, state))
         images.append(0)
     return Code(Graph(levels + 2, edges), target, 1, images)
+
+
+def mixed():
+    """A graph whose states 0 and 1 can be merged, with edges to both in no particular order."""
+    return Graph(2, [(0, 1), (1, 0), (1, 1), (0, 0)])
+
+
+def wide():
+    """A graph whose states 1 and 3 can be merged; two edges from the state 0 lead to each of them, crosswise."""
+    return Graph(5, [(0, 3), (4, 4), (0, 1), (1, 0), (2, 4), (0, 1), (3, 2), (0, 3), (4, 3), (3, 0), (4, 1)])
+
+
+def step_graphs():
+    return sample_graphs() + [
+        mixed(), wide(),
+        Graph(3, [(0, 1), (1, 0), (2, 2), (2, 0), (0, 2), (1, 2), (1, 1), (0, 0), (2, 1)]),
+        Graph(3, [(1, 0), (0, 0), (2, 0), (1, 0), (2, 0)]),
+        Graph(4, [(0, 1), (0, 2), (1, 3), (2, 3), (3, 0), (3, 0), (2, 0)]),
+    ]
+
+
+def splits(graph):
+    """All splits that a graph allows."""
+    return [Split(state, part) for state in range(graph.states) for size in range(1, len(graph.leaving(state)))
+            for part in combinations(graph.leaving(state), size)]
+
+
+def merges(graph):
+    """All merges that a graph allows."""
+    counts = graph.counts()
+    return [Merge(one, other) for one, other in combinations(range(graph.states), 2)
+            if [line[one] for line in counts] == [line[other] for line in counts]]
+
+
+def renamings(graph):
+    """Some renamings of a graph."""
+    orders = list(permutations(range(graph.states)))
+    size = len(graph)
+    turns = [tuple((edge + turn) % size for edge in range(size)) for turn in (0, 1)] + [tuple(reversed(range(size)))]
+    return [Renaming(states, edges) for states in (orders[0], orders[-1], orders[len(orders) // 3]) for edges in turns]
+
+
+def fits(graph, step):
+    """Whether a graph allows a step, and the new graph is not too large."""
+    try:
+        step.check(graph)
+    except (InvalidStep, LimitExceeded):
+        return False
+    return True
+
+
+def some_renaming(graph, dice):
+    states, edges = list(range(graph.states)), list(range(len(graph)))
+    dice.shuffle(states)
+    dice.shuffle(edges)
+    return Renaming(tuple(states), tuple(edges))
+
+
+def some_chain(graph, length, seed):
+    """A chain of splits, merges and renamings in some order, and its graphs from the first to the last."""
+    dice = Random(seed)
+    chain, graphs = [], [graph]
+    for place in range(length):
+        now = graphs[-1]
+        kinds = [splits(now), merges(now), [some_renaming(now, dice)]]
+        choices = [[step for step in steps if fits(now, step)] for steps in kinds]
+        step = dice.choice(dice.choice([steps for steps in choices if steps]))
+        chain.append(step)
+        graphs.append(step.result(now))
+    return chain, graphs
+
+
+def grown(graph, count, seed):
+    """A graph to which at most so many splits and a renaming lead."""
+    dice = Random(seed)
+    for time in range(count):
+        allowed = [step for step in splits(graph) if fits(graph, step)]
+        if allowed:
+            graph = dice.choice(allowed).result(graph)
+    return some_renaming(graph, dice).result(graph)
 
 
 class KinCase(unittest.TestCase):

@@ -21,6 +21,14 @@ STEP_METHODS = {
     "text": "(self)",
 }
 FUNCTIONS = {
+    "chains": {
+        "chain_result": "(graph, chain)",
+        "lead_through": "(graph, chain, row)",
+        "lead_back": "(graph, chain, row)",
+        "undone_chain": "(graph, chain)",
+        "chain_code": "(graph, chain, *, back=False)",
+        "leads_to": "(one, other, chain)",
+    },
     "codes": {
         "compose": "(first, *others)",
         "alike": "(one, other)",
@@ -30,6 +38,16 @@ FUNCTIONS = {
         "width_back": "(code)",
         "unreached": "(code)",
         "inverse": "(code)",
+    },
+    "kin": {
+        "compare": "(one, other)",
+        "check_comparison": "(one, other, claimed)",
+        "are_kin": "(one, other)",
+    },
+    "least": {
+        "merge_pairs": "(graph)",
+        "least": "(graph)",
+        "find_renaming": "(one, other)",
     },
     "origins": {
         "count_origins": "(code, row)",
@@ -49,6 +67,16 @@ FUNCTIONS = {
         "drop": "(row, *, count=1)",
         "state_at": "(graph, row, place)",
     },
+    "search": {
+        "find_codes": "(one, other, *, width=1)",
+    },
+}
+CONSTANTS = {
+    "chains": {"MAX_STEPS": 60},
+    "judging": {"MAX_JUDGED": 12},
+    "origins": {"MAX_LISTED": 60},
+    "paths": {"MAX_LENGTH": 40, "MAX_COUNTED": 2000},
+    "search": {"MAX_MAPS": 4096},
 }
 METHODS = {
     ("codes", "Code"): {
@@ -122,6 +150,11 @@ class InterfaceTest(KinCase):
                 method = method.fget if isinstance(method, property) else getattr(method, "__func__", method)
                 self.assertEqual(str(inspect.signature(method)), arguments, name)
 
+    def test_constants(self):
+        for file_name, constants in CONSTANTS.items():
+            module = importlib.import_module(f"windowkin.{file_name}")
+            self.assertEqual({name: getattr(module, name) for name in constants}, constants)
+
     def test_kinds_of_methods(self):
         owner = importlib.import_module("windowkin.graphs").Graph
         self.assertIsInstance(vars(owner)["full"], classmethod)
@@ -184,7 +217,9 @@ class FormTest(KinCase):
         imported = {name[:-3]: set() for name in sources()}
         for name, node in nodes(ast.ImportFrom):
             origin = node.module.split(".")[1]
-            defined = {part.name for part in ast.parse(sources()[f"{origin}.py"]).body if hasattr(part, "name")}
+            parts = ast.parse(sources()[f"{origin}.py"]).body
+            defined = {part.name for part in parts if hasattr(part, "name")}
+            defined |= {target.id for part in parts if isinstance(part, ast.Assign) for target in part.targets}
             self.assertTrue({alias.name for alias in node.names} <= defined, (name, node.module))
             imported[name[:-3]].add(origin)
         while imported:

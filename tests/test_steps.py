@@ -1,7 +1,7 @@
 from itertools import combinations, permutations
 from unittest import mock
 
-from tests.support import KinCase, double, golden, ring, rows_of, sample_graphs
+from tests.support import KinCase, double, golden, merges, mixed, renamings, ring, rows_of, splits, step_graphs, wide
 from windowkin.codes import Code, alike, compose
 from windowkin.errors import InvalidStep, LimitExceeded
 from windowkin.graphs import Graph
@@ -10,46 +10,6 @@ from windowkin.rows import normal_row
 from windowkin.steps import Merge, Renaming, Split, Step
 
 HUGE = 10 ** 29
-
-
-def mixed():
-    """A graph whose states 0 and 1 can be merged, with edges to both in no particular order."""
-    return Graph(2, [(0, 1), (1, 0), (1, 1), (0, 0)])
-
-
-def wide():
-    """A graph whose states 1 and 3 can be merged; two edges from the state 0 lead to each of them, crosswise."""
-    return Graph(5, [(0, 3), (4, 4), (0, 1), (1, 0), (2, 4), (0, 1), (3, 2), (0, 3), (4, 3), (3, 0), (4, 1)])
-
-
-def step_graphs():
-    return sample_graphs() + [
-        mixed(), wide(),
-        Graph(3, [(0, 1), (1, 0), (2, 2), (2, 0), (0, 2), (1, 2), (1, 1), (0, 0), (2, 1)]),
-        Graph(3, [(1, 0), (0, 0), (2, 0), (1, 0), (2, 0)]),
-        Graph(4, [(0, 1), (0, 2), (1, 3), (2, 3), (3, 0), (3, 0), (2, 0)]),
-    ]
-
-
-def splits(graph):
-    """All splits that a graph allows."""
-    return [Split(state, part) for state in range(graph.states) for size in range(1, len(graph.leaving(state)))
-            for part in combinations(graph.leaving(state), size)]
-
-
-def merges(graph):
-    """All merges that a graph allows."""
-    counts = graph.counts()
-    return [Merge(one, other) for one, other in combinations(range(graph.states), 2)
-            if [line[one] for line in counts] == [line[other] for line in counts]]
-
-
-def renamings(graph):
-    """Some renamings of a graph."""
-    orders = list(permutations(range(graph.states)))
-    size = len(graph)
-    turns = [tuple((edge + turn) % size for edge in range(size)) for turn in (0, 1)] + [tuple(reversed(range(size)))]
-    return [Renaming(states, edges) for states in (orders[0], orders[-1], orders[len(orders) // 3]) for edges in turns]
 
 
 def all_steps():

@@ -5,6 +5,12 @@ from windowkin.paths import count_paths, first_break, paths
 from windowkin.rows import check_row, normal_row
 
 
+def check_width(width, lowest):
+    """Raises InvalidWidth if a width is not from the lowest one to the greatest one that a code may have."""
+    if not lowest <= width <= Code.MAX_WIDTH:
+        raise InvalidWidth(width)
+
+
 def check_paths(graph, width):
     """Raises LimitExceeded if a graph has more paths of a length than a code may have."""
     if count_paths(graph, width) > Code.MAX_PATHS:
@@ -45,8 +51,7 @@ class Code:
     MAX_PATHS = 600
 
     def __init__(self, source, target, width, images):
-        if not 1 <= width <= Code.MAX_WIDTH:
-            raise InvalidWidth(width)
+        check_width(width, 1)
         check_paths(source, width)
         windows = list(paths(source, width))
         if len(images) != len(windows):
@@ -132,8 +137,7 @@ class Code:
 
     def widened(self, width):
         """The alike code of a width."""
-        if not self.window_size <= width <= Code.MAX_WIDTH:
-            raise InvalidWidth(width)
+        check_width(width, self.window_size)
         check_paths(self.source_graph, width)
         images = [self.image_table[path[:self.window_size]] for path in paths(self.source_graph, width)]
         return Code(self.source_graph, self.target_graph, width, images)
