@@ -33,6 +33,10 @@ FUNCTIONS = {
         "compose": "(first, *others)",
         "alike": "(one, other)",
     },
+    "files": {
+        "dump": "(workshop)",
+        "load": "(text)",
+    },
     "judging": {
         "conflict": "(code)",
         "width_back": "(code)",
@@ -70,6 +74,15 @@ FUNCTIONS = {
     "search": {
         "find_codes": "(one, other, *, width=1)",
     },
+    "texts": {
+        "graph_text": "(graph)",
+        "row_text": "(row)",
+        "code_text": "(code)",
+        "parse_graph": "(text)",
+        "parse_row": "(text)",
+        "parse_step": "(text)",
+        "parse_code": "(text, source, target)",
+    },
 }
 CONSTANTS = {
     "chains": {"MAX_STEPS": 60},
@@ -77,6 +90,7 @@ CONSTANTS = {
     "origins": {"MAX_LISTED": 60},
     "paths": {"MAX_LENGTH": 40, "MAX_COUNTED": 2000},
     "search": {"MAX_MAPS": 4096},
+    "workshop": {"MAX_THINGS": 12},
 }
 METHODS = {
     ("codes", "Code"): {
@@ -110,6 +124,31 @@ METHODS = {
         "leaving": "(self, state)",
         "entering": "(self, state)",
         "counts": "(self)",
+    },
+    ("workshop", "Workshop"): {
+        "__init__": "(self)",
+        "__eq__": "(self, other)",
+        "__len__": "(self)",
+        "__repr__": "(self)",
+        "apply": "(self, command)",
+        "apply_all": "(self, commands)",
+        "undo": "(self)",
+        "redo": "(self)",
+        "history": "(self)",
+        "capacity": "(self)",
+        "set_capacity": "(self, value)",
+        "names": "(self, *kinds)",
+        "kind": "(self, name)",
+        "graph": "(self, name)",
+        "row": "(self, name)",
+        "code": "(self, name)",
+        "clone": "(self)",
+    },
+    ("console", "Console"): {
+        "__init__": "(self, workshop)",
+        "__len__": "(self)",
+        "run": "(self, line)",
+        "log": "(self)",
     },
 }
 BUILTINS = set("""len range enumerate zip min max sum abs sorted reversed int str bool list tuple dict set isinstance
@@ -163,6 +202,11 @@ class InterfaceTest(KinCase):
         self.assertIsInstance(vars(owner)["identity"], classmethod)
         for name in ("source", "target", "width"):
             self.assertIsInstance(vars(owner)[name], property)
+        owner = importlib.import_module("windowkin.workshop").Workshop
+        for name in ("history", "capacity"):
+            self.assertIsInstance(vars(owner)[name], property)
+        self.assertIsNone(vars(owner)["history"].fset)
+        self.assertIsNotNone(vars(owner)["capacity"].fset)
 
 
 class FormTest(KinCase):
@@ -244,8 +288,9 @@ class FormTest(KinCase):
             self.assertTrue(word in SPECIAL_METHODS or not word.startswith("_"), (name, word))
 
     def test_no_name_is_a_method_and_an_attribute(self):
-        methods = {part.name for name, node in nodes(ast.ClassDef) for part in node.body
-                   if isinstance(part, ast.FunctionDef)}
+        parts = [part for name, node in nodes(ast.ClassDef) for part in node.body if isinstance(part, ast.FunctionDef)]
+        setters = {part.name for part in parts if any(isinstance(mark, ast.Attribute) for mark in part.decorator_list)}
+        methods = {part.name for part in parts} - setters
         assigned = {node.attr for name, node in nodes(ast.Attribute) if isinstance(node.ctx, ast.Store)}
         self.assertEqual(methods & assigned, set())
 
